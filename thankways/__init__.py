@@ -1,0 +1,1 @@
+"""Thankways: who goes leaves to whom they thank."""
