@@ -21,7 +21,7 @@ class NoNumber(ThankError):
     """An argument is no number that can be used; place is which one, from 0."""
 
     def __init__(self, place):
-        ThankError.__init__(self, "no number that can be used here")
+        super().__init__("no number that can be used here")
         self.place = place
 
 
@@ -29,7 +29,7 @@ class NoDeed(ThankError):
     """The deed is none."""
 
     def __init__(self, deed):
-        ThankError.__init__(self, "no deed")
+        super().__init__("no deed")
         self.deed = deed
 
 
@@ -37,7 +37,7 @@ class NoBook(ThankError):
     """The book is none; number is the first that is no deed, or None."""
 
     def __init__(self, number):
-        ThankError.__init__(self, "no book")
+        super().__init__("no book")
         self.number = number
 
 
@@ -45,7 +45,7 @@ class NoWeb(ThankError):
     """The thing is no web."""
 
     def __init__(self, thing):
-        ThankError.__init__(self, "no web")
+        super().__init__("no web")
         self.thing = thing
 
 
@@ -53,7 +53,7 @@ class NoNames(ThankError):
     """The names are no rising tuple of people of the web."""
 
     def __init__(self, names):
-        ThankError.__init__(self, "no rising tuple of people")
+        super().__init__("no rising tuple of people")
         self.names = names
 
 
@@ -61,7 +61,7 @@ class NoAmount(ThankError):
     """The amount is no fraction from 0 on."""
 
     def __init__(self, amount):
-        ThankError.__init__(self, "no amount")
+        super().__init__("no amount")
         self.amount = amount
 
 
@@ -69,7 +69,7 @@ class NoMany(ThankError):
     """What should tell how many is no whole number from 0 on."""
 
     def __init__(self, many):
-        ThankError.__init__(self, "no whole number from 0 on")
+        super().__init__("no whole number from 0 on")
         self.many = many
 
 
@@ -77,7 +77,7 @@ class NoText(ThankError):
     """The text cannot be read; row is the first wrong line, from 0, or None."""
 
     def __init__(self, row):
-        ThankError.__init__(self, "no text that can be read")
+        super().__init__("no text that can be read")
         self.row = row
 
 
@@ -85,7 +85,7 @@ class NoRow(ThankError):
     """The row of words is none that the desk knows."""
 
     def __init__(self, row):
-        ThankError.__init__(self, "no row that the desk knows")
+        super().__init__("no row that the desk knows")
         self.row = row
 
 
@@ -93,7 +93,7 @@ class NoName(LostError):
     """Nobody of this name is wanted here."""
 
     def __init__(self, name):
-        LostError.__init__(self, "nobody of this name")
+        super().__init__("nobody of this name")
         self.name = name
 
 
@@ -101,7 +101,7 @@ class NoLot(LostError):
     """There is no such lot."""
 
     def __init__(self, name):
-        LostError.__init__(self, "no such lot")
+        super().__init__("no such lot")
         self.name = name
 
 
@@ -109,7 +109,7 @@ class NoPlace(LostError):
     """Nothing has this number."""
 
     def __init__(self, number):
-        LostError.__init__(self, "nothing of this number")
+        super().__init__("nothing of this number")
         self.number = number
 
 
@@ -121,7 +121,7 @@ class Fails(StandError):
     """A deed cannot be done; number is which one, or None, and word tells why."""
 
     def __init__(self, number, word):
-        StandError.__init__(self, "a deed that cannot be done")
+        super().__init__("a deed that cannot be done")
         self.number = number
         self.word = word
 
@@ -134,5 +134,5 @@ class TooMany(StandError):
     """There would be too many deeds; many is how many."""
 
     def __init__(self, many):
-        StandError.__init__(self, "too many deeds")
+        super().__init__("too many deeds")
         self.many = many
