@@ -1,5 +1,6 @@
 """Names, deeds and books: what they are, not whether the deeds can be done."""
 
+from thankways.errors import NoBook
 from thankways.fractions import is_whole
 
 CHEST = "chest"
@@ -68,3 +69,12 @@ def is_book(thing):
     if not isinstance(thing, tuple) or len(thing) > MOST_DEEDS:
         return False
     return all([is_deed(deed) for deed in thing])
+
+
+def check_book(book):
+    """Refuse what is no book."""
+    if not isinstance(book, tuple) or len(book) > MOST_DEEDS:
+        raise NoBook(None)
+    for number, deed in enumerate(book):
+        if not is_deed(deed):
+            raise NoBook(number)

@@ -79,4 +79,20 @@ def over(one, other):
 def below(one, other):
     """Tell whether one fraction is less than another."""
     check_two(one, other)
+    return is_less(one, other)
+
+
+def is_less(one, other):
+    """Tell of two that are known to be fractions whether one is less than the other."""
     return one[0] * other[1] < other[0] * one[1]
+
+
+def sum_of(numbers):
+    """All of a list of what is known to be fractions, together."""
+    top, bottom = 0, 1
+    for more, parts in numbers:
+        # Only bottoms are brought together on the way: dividing the sums, too, would take far longer.
+        divisor = greatest_divisor(bottom, parts)
+        top = top * (parts // divisor) + more * (bottom // divisor)
+        bottom = bottom * (parts // divisor)
+    return lowest(top, bottom)
