@@ -110,6 +110,13 @@ class TestLanguage(unittest.TestCase):
                 if isinstance(node.value, str):
                     self.assertNotIn("%", node.value, path)
 
+    def test_powers(self):
+        for path, node in self.nodes():
+            if isinstance(node, (ast.BinOp, ast.AugAssign)) and isinstance(node.op, ast.Pow):
+                power = node.right if isinstance(node, ast.BinOp) else node.value
+                self.assertIsInstance(power, ast.Constant, (path, node.lineno))
+                self.assertIn(power.value, range(65), (path, node.lineno))
+
     def test_builtins(self):
         for path, tree in self.trees.items():
             there = set(bound_names(tree)) | local_names(tree) | BUILTINS

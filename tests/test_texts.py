@@ -164,7 +164,7 @@ class TestShowWeb(Refusing):
     def test_amounts_of_many_figures(self):
         self.assertIn("\nhas chests abcdefgh 1" + "0" * 998 + "9/2\n", show_web(LONG_NAMES))
         self.assertIn("\nhas zzzzzzzz a 1/1" + "0" * 998 + "9\n", show_web(LONG_NAMES))
-        for power in (1, 499, 500, 501, 999, 1000, 1001, 1500):
+        for power in (1, 58, 59, 60, 61, 119, 120, 121, 180, 999, 1000, 1001, 1500):
             for number in (10 ** power, 10 ** power - 1, 10 ** power + 7, 3 * 10 ** power):
                 web = (("ann",), (("ann", "rye", (number, 1)),), ())
                 self.assertEqual(show_web(web), "person ann\nhas ann rye " + str(number))

@@ -6,8 +6,8 @@ from thankways.fractions import is_fraction
 from thankways.webs import check_web, good_fits, person_fits, thank_fits
 
 # Python refuses to write out or to read numbers of some thousand figures at once.
-FIGURES_AT_ONCE = 500
-LIMIT_AT_ONCE = 10 ** 500
+FIGURES_AT_ONCE = 60
+LIMIT_AT_ONCE = 10 ** 60
 
 
 def show_whole(number):
@@ -31,10 +31,11 @@ def read_whole(text):
     """The whole number that a text is, or None."""
     if not is_figures(text):
         return None
-    number = 0
-    for start in range(0, len(text), FIGURES_AT_ONCE):
-        piece = text[start:start + FIGURES_AT_ONCE]
-        number = number * 10 ** len(piece) + int(piece)
+    # The first piece may be short, so that all others are of the same length.
+    end = len(text) % FIGURES_AT_ONCE
+    number = int("0" + text[:end])
+    for start in range(end, len(text), FIGURES_AT_ONCE):
+        number = number * LIMIT_AT_ONCE + int(text[start:start + FIGURES_AT_ONCE])
     return number
 
 
