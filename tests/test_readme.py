@@ -18,4 +18,4 @@ class TestReadme(unittest.TestCase):
             if isinstance(node, (ast.Expr, ast.Assign)) and re.match(r"[(\"A-Z0-9]", wanted):
                 self.assertEqual(eval(ast.unparse(node.value), names), eval(wanted), wanted)
                 shown += 1
-        self.assertGreaterEqual(shown, 16)
+        self.assertGreaterEqual(shown, 15)
