@@ -2,7 +2,7 @@
 
 from thankways.deeds import CHEST
 from thankways.errors import NoName
-from thankways.flows import amount_to, flow_behind, flow_of, flow_without
+from thankways.flows import amount_to, flow_behind, flow_of, flows_by_sets
 from thankways.webs import amount_held, check_holder, check_lot, check_names, check_web
 
 
@@ -45,12 +45,5 @@ def amount_behind(web, names, to, lot):
 
 def amounts_by_sets(web, names, to, lot):
     """For each rising tuple of some of names, the fewer ahead, then rising: (tuple, what one has behind it)."""
-    rows = [((), store_flow(web, lot))]
-    told = []
-    while len(rows) > 0:
-        told.extend([(gone, stored(flow, to)) for gone, flow in rows])
-        rows = [
-            (gone + (name,), flow_without(flow, name))
-            for gone, flow in rows for name in names if len(gone) == 0 or gone[-1] < name
-        ]
-    return told
+    flows = flows_by_sets(store_flow(web, lot), names)
+    return [(gone, stored(flows[gone], to)) for gone in flows]

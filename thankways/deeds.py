@@ -1,6 +1,6 @@
 """Names, deeds and books: what they are, not whether the deeds can be done."""
 
-from thankways.errors import NoBook
+from thankways.errors import NoBook, NoPlace
 from thankways.fractions import is_whole
 
 CHEST = "chest"
@@ -69,6 +69,12 @@ def is_book(thing):
     if not isinstance(thing, tuple) or len(thing) > MOST_DEEDS:
         return False
     return all([is_deed(deed) for deed in thing])
+
+
+def check_place(number, many):
+    """Refuse what is no number of one of so many, from 0."""
+    if not is_whole(number) or not 0 <= number < many:
+        raise NoPlace(number)
 
 
 def check_book(book):

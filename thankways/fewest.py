@@ -1,21 +1,14 @@
 """The fewest goings that bring one an amount, and the most that some goings bring."""
 
 from thankways.comes import amounts_by_sets
-from thankways.errors import NoAmount, NoMany
-from thankways.fractions import is_fraction, is_less, is_whole
-from thankways.webs import check_lot, check_person, check_web
-
-
-def check_amount(amount):
-    """Refuse what is no fraction from 0 on."""
-    if not is_fraction(amount) or amount[0] < 0:
-        raise NoAmount(amount)
+from thankways.errors import NoMany
+from thankways.fractions import is_less, is_whole
+from thankways.webs import check_amount, check_lot, check_person, check_web, others_of
 
 
 def amounts_of_others(web, to, lot):
     """For each rising tuple of others, the fewer ahead, then rising: (tuple, what one has behind it)."""
-    others = tuple([name for name in web[0] if name != to])
-    return amounts_by_sets(web, others, to, lot)
+    return amounts_by_sets(web, others_of(web, to), to, lot)
 
 
 def fewest(web, to, amount, *, lot=None):

@@ -7,6 +7,7 @@ anything that people hold; divided by scale and by the row's bottom the numbers 
 
 from thankways.deeds import CHEST
 from thankways.fractions import greatest_divisor, lowest
+from thankways.webs import sets_of
 
 
 def whole_row(amounts):
@@ -63,6 +64,15 @@ def flow_behind(flow, names):
     for name in names:
         flow = flow_without(flow, name)
     return flow
+
+
+def flows_by_sets(flow, names):
+    """{set: the flow behind its going} of all rising tuples of some of names, in the turn of sets_of."""
+    flows = {}
+    for gone in sets_of(names):
+        # A set with one name fewer always stands ahead.
+        flows[gone] = flow if gone == () else flow_without(flows[gone[:-1]], gone[-1])
+    return flows
 
 
 def amount_to(row, to, scale):

@@ -8,10 +8,13 @@ def shares(web, names):
     """For each of names, in their turn, a rising tuple of (to, share)."""
     check_web(web)
     check_names(web, names)
-    # One measure in the hands of each who goes shows where what this one holds comes to.
-    measures = {name: {name: (1, 1)} for name in names}
-    behind = flow_behind(flow_of(web, measures), names)
+    behind = flow_behind(measures_flow(web, names), names)
     return tuple([tuple(amounts_of(behind[1][name], behind[2])) for name in names])
+
+
+def measures_flow(web, names):
+    """The flow of a web with one measure in the hands of each of names, each in a store called as this one."""
+    return flow_of(web, {name: {name: (1, 1)} for name in names})
 
 
 def stuck(web, names):

@@ -7,11 +7,13 @@ from thankways.goings import web_behind
 from thankways.webs import MOST_LOTS, MOST_PEOPLE, check_web, is_held_by, is_one_of, lots_of
 from thankways.webs import amount_held, amount_thanked
 
+NOBODY = ((), (), ())
+
 
 def fails_at(book):
     """(number, word) of the first deed that cannot be done, or None where the book stands."""
     check_book(book)
-    return walked(book)[1]
+    return walked(book, NOBODY)[1]
 
 
 def web_after(web, deed):
@@ -28,21 +30,26 @@ def web_after(web, deed):
 def web_of(book):
     """The web that a book makes."""
     check_book(book)
-    web, failed = walked(book)
+    return webs_along(book)[-1]
+
+
+def webs_along(book):
+    """The webs ahead of all deeds of what is known to be a book, and the last one's; refused if it doesn't stand."""
+    webs, failed = walked(book, NOBODY)
     if failed is not None:
         raise Fails(failed[0], failed[1])
-    return web
+    return webs
 
 
-def walked(book):
-    """The web of all deeds ahead of the first that cannot be done, and its (number, word), or None."""
-    web = ((), (), ())
-    for number, deed in enumerate(book):
-        word = fault(web, deed)
+def walked(deeds, web):
+    """The webs from one on along all deeds that can be done, and (number, word) of the first that can't, or None."""
+    webs = [web]
+    for number, deed in enumerate(deeds):
+        word = fault(webs[-1], deed)
         if word is not None:
-            return (web, (number, word))
-        web = done(web, deed)
-    return (web, None)
+            return (webs, (number, word))
+        webs.append(done(webs[-1], deed))
+    return (webs, None)
 
 
 def fault(web, deed):

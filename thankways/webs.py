@@ -1,7 +1,7 @@
 """Webs: who is there, who holds how much of which lot, who thanks whom for how much."""
 
 from thankways.deeds import CHEST, is_name
-from thankways.errors import NoLot, NoName, NoNames, NoWeb
+from thankways.errors import NoAmount, NoLot, NoName, NoNames, NoWeb
 from thankways.fractions import is_fraction, sum_of
 
 MOST_PEOPLE = 8
@@ -95,6 +95,21 @@ def is_names(people, thing):
     return is_people(thing) and all([name in people for name in thing])
 
 
+def others_of(web, name):
+    """The people of a web but one, rising."""
+    return tuple([other for other in web[0] if other != name])
+
+
+def sets_of(names):
+    """All rising tuples of some of rising names, () too, the fewer names ahead, then rising."""
+    sets = [()]
+    level = [()]
+    while len(level) > 0:
+        level = [gone + (name,) for gone in level for name in names if len(gone) == 0 or gone[-1] < name]
+        sets.extend(level)
+    return sets
+
+
 def lots_of(web):
     """The lots of a web's goods, rising."""
     return sorted({row[1] for row in web[1]})
@@ -124,12 +139,21 @@ def check_holder(web, holder):
         raise NoName(holder)
 
 
+def is_lot(web, thing):
+    """Tell whether a thing of any kind is a lot of a web's goods."""
+    return isinstance(thing, str) and thing in lots_of(web)
+
+
 def check_lot(web, lot):
     """Refuse what is neither a lot of a web's goods nor None."""
-    if lot is None:
-        return
-    if not isinstance(lot, str) or lot not in lots_of(web):
+    if lot is not None and not is_lot(web, lot):
         raise NoLot(lot)
+
+
+def check_amount(amount):
+    """Refuse what is no fraction from 0 on."""
+    if not is_fraction(amount) or amount[0] < 0:
+        raise NoAmount(amount)
 
 
 def held(web, holder, *, lot=None):
