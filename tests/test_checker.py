@@ -241,7 +241,8 @@ class TestGoings(Checking):
         web = (EIGHT[:5], (("dan", "rye", ONE), ("eva", "rye", ONE)), (("dan", "ann", ONE), ("eva", "ann", ONE)))
         claim = ("fewest", web, "ann", None, (2, 1), 2)
         shown = (((1, 1), 1), ((1, 1), 1))
-        one, other = (("ben", "cat", "dan"), (STUCK, STUCK, ((1, 1), 1))), (("ben", "cat", "eva"), (STUCK, STUCK, ((1, 1), 1)))
+        one = (("ben", "cat", "dan"), (STUCK, STUCK, ((1, 1), 1)))
+        other = (("ben", "cat", "eva"), (STUCK, STUCK, ((1, 1), 1)))
         self.taken(claim, (("dan", "eva"), shown, (one, other)))
         self.not_taken(claim, (("dan", "eva"), shown, (one,)))
         self.not_taken(claim, (("dan", "eva"), shown, (one, (("eva",), (((0, 1), 1),)))))
@@ -251,7 +252,8 @@ class TestGoings(Checking):
         for amount in ((6, 1), (1, 9), (0, 1), (-3, 1)):
             claim = ("fewest", ROW, "ann", None, amount, 0)
             self.taken(claim, ((), (), ()))
-            self.none_taken(claim, (((), ()), (("ben",), (((0, 1), 1),), ()), (None, (), ()), ((), (), None), ((), None, ())))
+            self.none_taken(claim,
+                (((), ()), (("ben",), (((0, 1), 1),), ()), (None, (), ()), ((), (), None), ((), None, ())))
         # A set by whose going there is less may stand there, one that brings enough may not.
         self.not_taken(("fewest", ROW, "ann", None, (6, 1), 0), ((), (), (((), ()),)))
         self.not_taken(("fewest", ROW, "ann", None, (6, 1), False), ((), (), ()))
@@ -324,8 +326,10 @@ class TestThanks(Checking):
         self.taken(claim[:6] + ((12, 1),), (shown, more, ("ann", "ben")))
         self.none_taken(claim, (
             (shown, more, ("ann",)), (shown, more, ("ben",)), (shown, more, ()), (shown, more, ("ben", "ann")),
-            (shown, more, ["ann", "ben"]), (shown, more, None), (more, more, ("ann", "ben")), (shown, shown, ("ann", "ben")),
-            (shown, more, ("ann", "ben", "eva")), (shown, more), (shown, more, ("ann", "ben"), ()), (shown, more, ("ann", "cat")),
+            (shown, more, ["ann", "ben"]), (shown, more, None), (more, more, ("ann", "ben")),
+            (shown, shown, ("ann", "ben")),
+            (shown, more, ("ann", "ben", "eva")), (shown, more), (shown, more, ("ann", "ben"), ()),
+            (shown, more, ("ann", "cat")),
         ))
         self.not_taken(claim[:6] + ((14, 1),), (shown, more, ("ann", "ben")))
         self.not_taken(claim[:6] + ((1, 1),), (shown, more, ("ann", "ben")))
@@ -359,9 +363,27 @@ class TestThanks(Checking):
     def test_to_is_one_of_the_people_and_by_one_of_names(self):
         shown, more = (((1, 1), 2),), (((1, 1), 1),)
         for word, third in (("thank", (("ann",), ())), ("any thank", ("ann",)), ("no thank", None)):
-            for by, to in (("ann", "chest"), ("ben", "eva"), ("ann", "ann"), ("chest", "eva"), ("ann", "zoe"), (None, "eva")):
+            for by, to in (("ann", "chest"), ("ben", "eva"), ("ann", "ann"), ("chest", "eva"), ("ann", "zoe"),
+                (None, "eva")):
                 claim = (word, KNOT, ("ann",), by, to, None, (100, 1)) + ((ONE,) if word == "thank" else ())
                 self.not_taken(claim, (shown, more, third))
+
+    def test_to_the_chest_with_grounds_that_fit(self):
+        names = ("ann", "ben")
+        shown, more = grounds(KNOT, names, "chest"), grounds(with_alone(KNOT, "ann", "chest"), names, "chest")
+        self.not_taken(("no thank", KNOT, names, "ann", "chest", None, (100, 1)), (shown, more, None))
+        most = told(amount_of(with_alone(KNOT, "ann", "chest"), names, "chest", None))
+        self.not_taken(("no thank", KNOT, names, "ann", "chest", None, most), (shown, more, (("ann", "ben"), ())))
+        other = with_more(KNOT, "ann", "chest", 1)
+        claim = ("thank", KNOT, names, "ann", "chest", None, told(amount_of(other, names, "chest", None)), ONE)
+        self.not_taken(claim, (shown, grounds(other, names, "chest"), (("ann", "ben"), ())))
+        self.taken(("has", KNOT, names, "chest", None, told(amount_of(KNOT, names, "chest", None))), shown)
+
+    def test_less_thanks_with_grounds_that_fit(self):
+        # With 3 less ann would thank all together for -1: eva's part were 3, ben's -2.
+        shown, more = (((0, 1), 1),), (((3, 1), 1),)
+        for amount in ((21, 1), (3, 1), (4, 1)):
+            self.not_taken(("thank", KNOT, ("ann",), "ann", "eva", None, amount, (-3, 1)), (shown, more, (("ann",), ())))
 
     def test_all_openings_and_sets(self):
         seen = set()
@@ -369,8 +391,8 @@ class TestThanks(Checking):
             for claim in list(claims_of_thanks(web))[::5]:
                 if len(claim[2]) < 4 and is_so(claim):
                     names, paper = claim[2], paper_of(claim)
-                    thirds = [(row, shut) for row in ways(web, names, names) for shut in subsets(names)] + subsets(names) + [None]
-                    for third in thirds:
+                    opened = [(row, shut) for row in ways(web, names, names) for shut in subsets(names)]
+                    for third in opened + subsets(names) + [None]:
                         wanted = takes(claim, paper[:2] + (third,))
                         self.assertIs(holds(claim, paper[:2] + (third,)), wanted)
                         seen.add((claim[0], wanted))
@@ -412,7 +434,8 @@ class TestBeside(Checking):
         self.taken(("alike", BOTH, half), None)
         for place in range(len(BOTH[2])):
             name, to, amount = BOTH[2][place]
-            other = (BOTH[0], BOTH[1], BOTH[2][:place] + ((name, to, (amount[0] * 7, amount[1] * 5)),) + BOTH[2][place + 1:])
+            other = (BOTH[0], BOTH[1],
+                BOTH[2][:place] + ((name, to, (amount[0] * 7, amount[1] * 5)),) + BOTH[2][place + 1:])
             alone = [row[0] for row in BOTH[2]].count(name) == 1
             self.assertIs(holds(("alike", BOTH, other), None), alone and is_so(("alike", BOTH, other)))
             self.not_taken(("alike", BOTH, (BOTH[0], BOTH[1], BOTH[2][:place] + BOTH[2][place + 1:])), None)
@@ -436,7 +459,8 @@ class TestAll(Checking):
         source, seen = random.Random(18), {}
         other = (KNOT[0], KNOT[1], KNOT[2][1:])
         beside = (
-            ("alike", KNOT, KNOT), ("apart", KNOT, other, ("ann",), "ben", "rye"), ("apart", other, KNOT, ("ann",), "chest", "rye"),
+            ("alike", KNOT, KNOT), ("apart", KNOT, other, ("ann",), "ben", "rye"),
+            ("apart", other, KNOT, ("ann",), "chest", "rye"),
         )
         claims = [claim for web in SOME[:8] for claim in true_claims(web)]
         for word in CLAIMS:
@@ -478,7 +502,8 @@ class TestAll(Checking):
     def test_things_of_any_kind(self):
         right = ("has", ROW, (), "ann", None, (6, 1))
         self.taken(right, ())
-        for thing in ODD_THINGS + NO_WEBS + (right[:-1], right + (None,), list(right), nested(3), ("has",), (right,), CLAIMS):
+        for thing in ODD_THINGS + NO_WEBS + (right[:-1], right + (None,), list(right), nested(3), ("has",), (right,),
+            CLAIMS):
             self.not_taken(thing, ())
             self.not_taken(thing, thing)
             self.not_taken(("has", thing) + right[2:], ())

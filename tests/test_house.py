@@ -286,7 +286,8 @@ class TestWishes(Refusing):
         house = house_of(BOOK)
         # ben has 9/4 of wheat behind deed 4, and 5/4 behind deed 7.
         little = Fraction(1, LARGE)
-        for amount, first in ((Fraction(9, 4), 4), (Fraction(9, 4) + little, None), (Fraction(9, 4) - little, 4), (little, 4)):
+        for amount, first in ((Fraction(9, 4), 4), (Fraction(9, 4) + little, None), (Fraction(9, 4) - little, 4),
+            (little, 4)):
             number = house.wish("ben", told(amount), lot="wheat")
             self.assertEqual(house.wishes()[-1], (number, first))
 

@@ -19,8 +19,18 @@ BUILTINS = set(
     " ArithmeticError OverflowError RuntimeError NotImplementedError AttributeError StopIteration NotImplemented iter"
     " next super property staticmethod classmethod".split()
 )
+METHODS = set(
+    "append clear copy count endswith extend find get index insert isalnum isalpha isdigit islower isspace isupper items"
+    " join keys ljust lower lstrip partition pop remove replace reverse rfind rjust rpartition rsplit rstrip setdefault"
+    " split splitlines startswith strip update upper values zfill bit_length".split()
+)
+# These are iterated on the spot, in a loop or by one of those that take them.
+ITERATED = ("zip", "enumerate", "range", "reversed", "items", "keys", "values")
+TAKERS = ("list", "tuple", "dict", "sorted", "sum", "any", "all", "enumerate", "zip")
+DOUBLE = ("__init__", "__eq__", "__repr__", "__str__", "__len__")
 BARRED_NODES = (
-    ast.Global, ast.AsyncFunctionDef, ast.AsyncFor, ast.AsyncWith, ast.Await, ast.Div, ast.Import,
+    ast.Global, ast.AsyncFunctionDef, ast.AsyncFor, ast.AsyncWith, ast.Await, ast.Div, ast.Import, ast.GeneratorExp,
+    ast.Try, ast.Lambda, ast.AnnAssign, ast.Set, ast.NamedExpr, ast.Assert, ast.Match, ast.With,
 )
 
 
@@ -123,3 +133,86 @@ class TestLanguage(unittest.TestCase):
             for node in ast.walk(tree):
                 if isinstance(node, ast.Name) and isinstance(node.ctx, ast.Load):
                     self.assertIn(node.id, there, (path, node.lineno))
+
+    def test_methods(self):
+        own = {node.name for _, node in self.nodes() if isinstance(node, ast.FunctionDef)}
+        for path, node in self.nodes():
+            if isinstance(node, ast.Call) and isinstance(node.func, ast.Attribute):
+                self.assertIn(node.func.attr, METHODS | own | {"__init__"}, (path, node.lineno))
+                if node.func.attr in METHODS:
+                    self.assertEqual(node.keywords, [], (path, node.lineno))
+            if isinstance(node, ast.FunctionDef) and node.name.startswith("_"):
+                self.assertIn(node.name, DOUBLE, path)
+
+    def test_no_name_is_a_method_here_and_an_attribute_there(self):
+        methods, attributes = set(), set()
+        for _, node in self.nodes():
+            if isinstance(node, ast.ClassDef):
+                methods |= {part.name for part in node.body if isinstance(part, ast.FunctionDef)}
+            if isinstance(node, ast.Attribute) and isinstance(node.ctx, ast.Store):
+                attributes.add(node.attr)
+        self.assertEqual(methods & attributes, set())
+        self.assertEqual((methods | attributes) & (METHODS - {"count", "index", "find", "get"}), set())
+
+    def test_is(self):
+        for path, node in self.nodes():
+            if isinstance(node, ast.Compare):
+                for op, right in zip(node.ops, node.comparators):
+                    if isinstance(op, (ast.Is, ast.IsNot)):
+                        self.assertIsInstance(right, ast.Constant, (path, node.lineno))
+                        self.assertIn(right.value, (None, True, False), (path, node.lineno))
+
+    def test_what_is_iterated_at_once_and_sets_are_not_kept(self):
+        for path, tree in self.trees.items():
+            fits = set()
+            for node in ast.walk(tree):
+                if isinstance(node, (ast.For, ast.comprehension)):
+                    fits.add(node.iter)
+                if isinstance(node, ast.Call) and isinstance(node.func, ast.Name) and node.func.id in TAKERS:
+                    fits |= set(node.args[:1]) | set(node.args if node.func.id == "zip" else ())
+                if isinstance(node, ast.Call) and isinstance(node.func, ast.Name) and node.func.id in ("sorted", "len"):
+                    fits |= {part for part in ast.walk(node.args[0]) if isinstance(part, (ast.Call, ast.BinOp, ast.SetComp))}
+            for node in ast.walk(tree):
+                name = None
+                if isinstance(node, ast.Call):
+                    name = node.func.id if isinstance(node.func, ast.Name) else getattr(node.func, "attr", None)
+                if name in ITERATED + ("set",) or isinstance(node, ast.SetComp):
+                    self.assertIn(node, fits, (path, node.lineno))
+
+    def test_no_two_files_import_from_each_other(self):
+        above = {}
+        for path, tree in self.trees.items():
+            above[path.stem] = {node.module.split(".")[1] for node in tree.body if isinstance(node, ast.ImportFrom)}
+        left = dict(above)
+        while left:
+            free = [name for name in left if not left[name] & set(left)]
+            self.assertNotEqual(free, [], left)
+            for name in free:
+                del left[name]
+        for path, tree in self.trees.items():
+            for node in tree.body:
+                if isinstance(node, ast.ImportFrom):
+                    there = self.trees[PACKAGE / (node.module.split(".")[1] + ".py")]
+                    defined = {part.name for part in there.body if isinstance(part, (ast.FunctionDef, ast.ClassDef))}
+                    defined |= {part.targets[0].id for part in there.body if isinstance(part, ast.Assign)}
+                    self.assertLessEqual({alias.name for alias in node.names}, defined, path)
+
+    def test_calls_of_own_functions_pass_what_they_take(self):
+        takes = {}
+        for _, tree in self.trees.items():
+            for node in tree.body:
+                if isinstance(node, ast.FunctionDef):
+                    takes[node.name] = node.args
+        for path, node in self.nodes():
+            if isinstance(node, ast.Call) and isinstance(node.func, ast.Name) and node.func.id in takes:
+                args = takes[node.func.id]
+                least = len(args.args) - len(args.defaults)
+                self.assertIn(len(node.args), range(least, len(args.args) + 1), (path, node.lineno))
+                self.assertLessEqual({word.arg for word in node.keywords}, {arg.arg for arg in args.kwonlyargs}, path)
+
+    def test_no_import_is_left_unused(self):
+        for path, tree in self.trees.items():
+            used = {node.id for node in ast.walk(tree) if isinstance(node, ast.Name)}
+            for node in tree.body:
+                if isinstance(node, ast.ImportFrom):
+                    self.assertLessEqual({alias.asname or alias.name for alias in node.names}, used, path)

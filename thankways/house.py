@@ -13,6 +13,8 @@ class House:
 
     def __init__(self):
         self.deeds = ()
+        # The webs ahead of all deeds and behind each, so that what is asked needn't walk the book again.
+        self.webs = webs_along(())
         self.ahead = []
         self.kept = {}
         self.given = 0
@@ -38,15 +40,17 @@ class House:
 
     def turn_to(self, book):
         """Keep another book in the place of the one of now, if it stands."""
-        webs_along(book)
+        webs = webs_along(book)
         self.ahead.append(self.deeds)
         self.deeds = book
+        self.webs = webs
 
     def back(self):
         """Take back the last deed put in or struck that isn't taken back."""
         if len(self.ahead) == 0:
             raise NoBack("nothing to take back")
         self.deeds = self.ahead.pop()
+        self.webs = webs_along(self.deeds)
 
     def wish(self, to, amount, *, lot=None):
         """Keep the wish that somebody has an amount of a lot, or of all; its number."""
@@ -69,8 +73,7 @@ class House:
 
     def wishes(self):
         """(number, first) of each wish: the number of the first deed behind which it is so, or None."""
-        webs = webs_along(self.deeds)
-        return tuple([(number, first_so(webs, self.kept[number])) for number in sorted(self.kept)])
+        return tuple([(number, first_so(self.webs, self.kept[number])) for number in sorted(self.kept)])
 
     def book(self):
         """The book of now."""
@@ -78,7 +81,7 @@ class House:
 
     def web(self):
         """The web that the book of now makes."""
-        return webs_along(self.deeds)[-1]
+        return self.webs[-1]
 
     def __len__(self):
         return len(self.deeds)
